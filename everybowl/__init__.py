@@ -1,0 +1,1 @@
+"""Everybowl: points on a floor, counted by what lies beyond lines, planes and circles."""

@@ -1,0 +1,61 @@
+"""The interface: each name is defined in its file, and each method in the body of its class."""
+
+import ast
+import unittest
+from pathlib import Path
+
+PACKAGE = Path(__file__).resolve().parent.parent / "everybowl"
+
+FUNCTIONS = {
+    "choices": {"choose": ["n", "k"], "subsets": ["n", "size"]},
+    "tables": {"spread": ["row"], "gather": ["row"], "bends": ["row"], "unbend": ["row"]},
+    "turns": {"doubled_area": ["p", "q", "r"], "height_sign": ["p", "q", "r", "s"],
+              "ring_sign": ["p", "q", "r", "s"]},
+}
+
+CLASSES = {
+    "ratios": {"Ratio": {
+        "__init__": ["self", "top", "bottom"], "read": ["cls", "text"], "divided": ["self", "other"],
+        "less": ["self", "other"], "sign": ["self"], "text": ["self"],
+        "__add__": ["self", "other"], "__radd__": ["self", "other"], "__sub__": ["self", "other"],
+        "__rsub__": ["self", "other"], "__mul__": ["self", "other"], "__rmul__": ["self", "other"],
+        "__neg__": ["self"], "__abs__": ["self"], "__eq__": ["self", "other"]}},
+    "floors": {"Floor": {
+        "__init__": ["self", "points"], "of": ["cls", "*points"], "area": ["self", "a", "b", "c"],
+        "turn": ["self", "a", "b", "c"], "left_of": ["self", "a", "b"], "only": ["self", "numbers"],
+        "without": ["self", "number"], "plus": ["self", "point"], "__len__": ["self"], "__iter__": ["self"],
+        "__getitem__": ["self", "at"], "__contains__": ["self", "x"], "__eq__": ["self", "other"]}},
+}
+
+
+def tree_of(module):
+    return ast.parse((PACKAGE / f"{module}.py").read_text(encoding="ascii"))
+
+
+def named(tree, kind):
+    return {node.name: node for node in tree.body if isinstance(node, kind)}
+
+
+def parameters(function):
+    given = function.args
+    names = [arg.arg for arg in given.posonlyargs + given.args]
+    return names + ([f"*{given.vararg.arg}"] if given.vararg else [])
+
+
+class Interface(unittest.TestCase):
+    def test_functions(self):
+        for module, functions in FUNCTIONS.items():
+            found = named(tree_of(module), ast.FunctionDef)
+            for name, wanted in functions.items():
+                self.assertEqual(parameters(found[name]), wanted, f"{module}.{name}")
+
+    def test_methods(self):
+        for module, classes in CLASSES.items():
+            found = named(tree_of(module), ast.ClassDef)
+            for word, methods in classes.items():
+                own = named(found[word], ast.FunctionDef)
+                for name, wanted in methods.items():
+                    self.assertEqual(parameters(own[name]), wanted, f"{word}.{name}")
+
+    def test_package_is_bare(self):
+        self.assertEqual([node.__class__ for node in tree_of("__init__").body], [ast.Expr])
