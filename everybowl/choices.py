@@ -22,9 +22,9 @@ def subsets(n, size):
 def subset_list(n, size):
     """Return what subsets yields, as a list, for a size from 0 to n."""
     found = [()]
-    for missing in range(size - 1, -1, -1):
-        # Each next member leaves enough numbers behind it for the members still missing.
-        found = [(*part, k) for part in found for k in range(first_behind(part), n - missing)]
+    for _ in range(size):
+        # A part with too few numbers behind it finds no next member and so drops out.
+        found = [(*part, k) for part in found for k in range(first_behind(part), n)]
     return found
 
 

@@ -2,13 +2,23 @@
 
 from everybowl.errors import OnLine
 from everybowl.floors import Floor
+from everybowl.holds import held_by
+from everybowl.linerows import line_row
 from everybowl.tables import bends, unbend
 from tests.helpers import Case
 
 
 class Examples(Case):
+    def test_line_row(self):
+        floor = Floor([(0, 0), (4, 0), (0, 4), (1, 1)])
+        self.same(line_row(floor), [3, 6, 3])
+
     def test_points_on_a_line(self):
         self.refuses(OnLine((0, 1, 3)), Floor, [(0, 0), (1, 1), (5, 0), (3, 3)])
+
+    def test_held_by(self):
+        floor = Floor([(0, 0), (4, 0), (0, 4), (1, 1)])
+        self.same(held_by(floor, 3), ((0, 1, 2), (2, 1, 1)))
 
     def test_bends(self):
         self.same([bends([1, 3, 1]), unbend([1, 1, -4, 1, 1])], [[1, 1, -4, 1, 1], [1, 3, 1]])

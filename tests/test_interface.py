@@ -11,6 +11,14 @@ FUNCTIONS = {
     "tables": {"spread": ["row"], "gather": ["row"], "bends": ["row"], "unbend": ["row"]},
     "turns": {"doubled_area": ["p", "q", "r"], "height_sign": ["p", "q", "r", "s"],
               "ring_sign": ["p", "q", "r", "s"]},
+    "changes": {"moved": ["floor", "dx", "dy"], "sheared": ["floor", "k"], "scaled": ["floor", "m"],
+                "mirrored": ["floor"], "quartered": ["floor"]},
+    "linerows": {"line_row": ["floor"], "lines_with": ["floor", "count"], "corner_row": ["floor"],
+                 "round_point": ["floor", "number"]},
+    "fours": {"inner_of": ["floor", "a", "b", "c", "d"], "split": ["floor", "a", "b", "c", "d"],
+              "inner_pairs": ["floor"], "convex_fours": ["floor"]},
+    "rims": {"corners": ["floor"], "rim": ["floor"], "rim_area": ["floor"]},
+    "holds": {"held_by": ["floor", "number"], "line_past": ["floor", "number"]},
 }
 
 CLASSES = {
@@ -25,6 +33,11 @@ CLASSES = {
         "turn": ["self", "a", "b", "c"], "left_of": ["self", "a", "b"], "only": ["self", "numbers"],
         "without": ["self", "number"], "plus": ["self", "point"], "__len__": ["self"], "__iter__": ["self"],
         "__getitem__": ["self", "at"], "__contains__": ["self", "x"], "__eq__": ["self", "other"]}},
+    "raised": {"Raised": {
+        "__init__": ["self", "floor", "heights"], "over": ["self", "a", "b", "c", "d"],
+        "below": ["self", "a", "b", "c"], "above": ["self", "a", "b", "c"], "plane": ["self", "a", "b", "c"],
+        "only": ["self", "numbers"], "without": ["self", "number"], "plus": ["self", "point", "height"],
+        "tilted": ["self", "a", "b", "c"], "__len__": ["self"], "__neg__": ["self"], "__eq__": ["self", "other"]}},
 }
 
 
