@@ -26,8 +26,12 @@ def lines_and_lefts(floor):
 
 def corner_row(floor):
     """Return for each size from 3 to n how many corners all subsets of this size have together."""
-    n = len(floor)
-    row = line_row(floor)
+    return corners_by_lines(line_row(floor))
+
+
+def corners_by_lines(row):
+    """Return the corner row that a line row tells."""
+    n = len(row) + 1
     # A line with nothing of the subset on its left joins two neighbours on the subset's rim, and it counts
     # for one of its corners: the other members are chosen among the points on its right.
     return [sum([row[j] * comb(n - 2 - j, size - 2) for j in range(n - 1)]) for size in range(3, n + 1)]

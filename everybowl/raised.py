@@ -1,11 +1,11 @@
 """Raised points: a floor with a height for each point, no four of them on a plane."""
 
-from everybowl.checks import check_count, check_number, check_numbers, check_range
+from everybowl.checks import check_count, check_numbers, check_range
 from everybowl.choices import subset_list
 from everybowl.errors import OnPlane
 from everybowl.floors import check_point, others
 from everybowl.ratios import Ratio
-from everybowl.turns import bare_area, bare_height_sign, bare_rise
+from everybowl.turns import bare_height_sign, bare_plane, bare_rise
 
 FARTHEST_SLOPE = 10 ** 6
 FARTHEST_LIFT = 10 ** 12
@@ -56,12 +56,7 @@ class Raised:
     def plane(self, a, b, c):
         """Return the Ratios (alpha, beta, gamma) of the plane alpha * x + beta * y + gamma through a, b and c."""
         check_numbers((a, b, c), len(self.heights))
-        p, q, r = self._places[a], self._places[b], self._places[c]
-        area = bare_area(p, q, r)
-        # A place with the height 0 is below the plane by what the plane is high there.
-        gamma = -bare_rise(p, q, r, (0, 0, 0))
-        alpha = -bare_rise(p, q, r, (1, 0, 0)) - gamma
-        beta = -bare_rise(p, q, r, (0, 1, 0)) - gamma
+        alpha, beta, gamma, area = bare_plane(self._places[a], self._places[b], self._places[c])
         return Ratio(alpha, area), Ratio(beta, area), Ratio(gamma, area)
 
     def only(self, numbers):

@@ -18,6 +18,11 @@ def spread(row):
 def gather(row):
     """Return the row whose spread this row is."""
     check_row(row, 0)
+    return bare_gather(row)
+
+
+def bare_gather(row):
+    """Return what gather returns, and look at no range."""
     return [sum([gathered(s, m, row[s]) for s in range(m, len(row))]) for m in range(len(row))]
 
 

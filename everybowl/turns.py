@@ -63,6 +63,15 @@ def bare_rise(p, q, r, s):
     )
 
 
+def bare_plane(p, q, r):
+    """Return (alpha, beta, gamma, area): the plane through p, q and r times their doubled area, and this area."""
+    # A place with the height 0 is below the plane by what the plane is high there.
+    gamma = -bare_rise(p, q, r, (0, 0, 0))
+    alpha = -bare_rise(p, q, r, (1, 0, 0)) - gamma
+    beta = -bare_rise(p, q, r, (0, 1, 0)) - gamma
+    return alpha, beta, gamma, bare_area(p, q, r)
+
+
 def bare_height_sign(p, q, r, s):
     """Return what height_sign returns; p, q and r do not lie on a line."""
     return sign_of(bare_rise(p, q, r, s)) * sign_of(bare_area(p, q, r))

@@ -1,11 +1,20 @@
-"""The rows of the document's Examples for the modules that are there."""
+"""The rows of the document's Examples for the modules that are there, and those of README.md."""
 
+import doctest
+from pathlib import Path
+
+from everybowl.bowls import Bowl
+from everybowl.circles import circle, inside_circle
 from everybowl.errors import OnLine
 from everybowl.floors import Floor
 from everybowl.holds import held_by
 from everybowl.linerows import line_row
+from everybowl.planerows import plane_row
 from everybowl.tables import bends, unbend
 from tests.helpers import Case
+
+
+README = Path(__file__).resolve().parent.parent / "README.md"
 
 
 class Examples(Case):
@@ -22,3 +31,18 @@ class Examples(Case):
 
     def test_bends(self):
         self.same([bends([1, 3, 1]), unbend([1, 1, -4, 1, 1])], [[1, 1, -4, 1, 1], [1, 3, 1]])
+
+    def test_plane_row(self):
+        floor = Floor([(0, 0), (4, 0), (0, 4), (1, 1)])
+        self.same(plane_row(Bowl.circular(floor)), [3, 1])
+
+    def test_circle(self):
+        floor = Floor([(0, 0), (4, 0), (0, 4), (1, 1)])
+        x, y, square = circle(floor, 0, 1, 3)
+        self.same([x.text(), y.text(), square.text(), inside_circle(floor, 0, 1, 3)], ["2", "-1", "5", []])
+
+    def test_readme(self):
+        text = README.read_text("ascii").replace("```", "")
+        rows = doctest.DocTestParser().get_doctest(text, {}, "README", None, 0)
+        self.assertTrue(len(rows.examples) > 5)
+        self.assertEqual(doctest.DocTestRunner().run(rows).failed, 0)

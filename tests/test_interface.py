@@ -19,6 +19,16 @@ FUNCTIONS = {
               "inner_pairs": ["floor"], "convex_fours": ["floor"]},
     "rims": {"corners": ["floor"], "rim": ["floor"], "rim_area": ["floor"]},
     "holds": {"held_by": ["floor", "number"], "line_past": ["floor", "number"]},
+    "nets": {"lower_net": ["raised"], "upper_net": ["raised"], "net_points": ["raised"], "body_corners": ["raised"],
+             "net_change": ["raised", "point", "height"]},
+    "touches": {"touching": ["raised", "number"], "first_high": ["raised"], "is_bowl": ["raised"]},
+    "floortexts": {"write_floor": ["floor"], "write_raised": ["raised"], "read_floor": ["text"],
+                   "read_raised": ["text"]},
+    "circles": {"circle": ["floor", "a", "b", "c"], "inside_circle": ["floor", "a", "b", "c"]},
+    "planerows": {"plane_row": ["raised"], "planes_with": ["raised", "count"], "side_row": ["raised"],
+                  "pole_row": ["raised", "number"], "high_row": ["raised"], "deep_row": ["raised"],
+                  "inner_row": ["raised"], "net_row": ["raised"]},
+    "pencils": {"pencil": ["raised", "a", "b"], "pencil_sets": ["raised", "a", "b"]},
 }
 
 CLASSES = {
@@ -38,6 +48,10 @@ CLASSES = {
         "below": ["self", "a", "b", "c"], "above": ["self", "a", "b", "c"], "plane": ["self", "a", "b", "c"],
         "only": ["self", "numbers"], "without": ["self", "number"], "plus": ["self", "point", "height"],
         "tilted": ["self", "a", "b", "c"], "__len__": ["self"], "__neg__": ["self"], "__eq__": ["self", "other"]}},
+    "bowls": {"Bowl": {
+        "__init__": ["self", "floor", "heights"], "circular": ["cls", "floor"], "only": ["self", "numbers"],
+        "without": ["self", "number"], "plus": ["self", "point", "height"], "tilted": ["self", "a", "b", "c"],
+        "__add__": ["self", "other"], "__mul__": ["self", "other"], "__or__": ["self", "other"]}},
 }
 
 

@@ -1,56 +1,13 @@
 """Points 23 and 24: raised points."""
 
-from fractions import Fraction
 from itertools import combinations, permutations
 
 from everybowl.errors import NoPoint, OnLine, OnPlane, Repeated, TooFar, WrongCount
 from everybowl.floors import Floor
 from everybowl.raised import Raised
 from everybowl.ratios import Ratio
-from tests.helpers import FAR, NESTED, ROUND, SAMPLE, WIDE, Case, all_floors, doubled, scattered
-
-HIGH = 10 ** 15
-HUGE = 10 ** 5000
-DEEP = [0, 16, 16, 2]
-
-
-def rise(places, a, b, c, d):
-    """The height of d above the plane through a, b and c, as a fraction, by the slopes of this plane."""
-    alpha, beta, gamma = slopes(places, a, b, c)
-    x, y, z = places[d]
-    return z - alpha * x - beta * y - gamma
-
-
-def slopes(places, a, b, c):
-    p, q, r = places[a], places[b], places[c]
-    area = doubled(p, q, r)
-    alpha = Fraction((q[2] - p[2]) * (r[1] - p[1]) - (r[2] - p[2]) * (q[1] - p[1]), area)
-    beta = Fraction((q[0] - p[0]) * (r[2] - p[2]) - (r[0] - p[0]) * (q[2] - p[2]), area)
-    return alpha, beta, p[2] - alpha * p[0] - beta * p[1]
-
-
-def places_of(raised):
-    return [(x, y, z) for (x, y), z in zip(raised.floor.points, raised.heights)]
-
-
-def scattered_heights(floor, seed, high):
-    """Heights that look random, so that no four raised points lie on a plane."""
-    source = scattered(seed)
-    while True:
-        heights = [next(source) * (2 ** 33) % (2 * high + 1) - high for _ in floor.points]
-        places = [(x, y, z) for (x, y), z in zip(floor.points, heights)]
-        if all(rise(places, *four) != 0 for four in combinations(range(len(floor)), 4)):
-            return heights
-
-
-def all_raised():
-    floors = all_floors()
-    return [Raised(floor, scattered_heights(floor, k, high))
-            for k, floor in enumerate(floors) for high in (60 if k % 2 else HIGH,)]
-
-
-def sign(value):
-    return (value > 0) - (value < 0)
+from tests.heights import DEEP, HIGH, HUGE, all_raised, places_of, rise, scattered_heights, sign, slopes
+from tests.helpers import FAR, NESTED, ROUND, SAMPLE, WIDE, Case, all_floors
 
 
 class RaisedCase(Case):

@@ -26,6 +26,23 @@ def nodes(kind):
             if isinstance(node, kind)]
 
 
+def trees():
+    """The tree of each file, under the name of its module."""
+    return {path.stem: ast.parse(path.read_text("ascii")) for path in FILES}
+
+
+def imports_of(tree):
+    """The modules of the package that a file imports from, each with the names that it takes."""
+    return {node.module.split(".")[1]: {word.name for word in node.names} for node in tree.body
+            if isinstance(node, ast.ImportFrom) and node.module.startswith("everybowl.")}
+
+
+def defined_in(tree):
+    """The names that a file defines at module level."""
+    found = {node.name for node in tree.body if isinstance(node, (ast.FunctionDef, ast.ClassDef))}
+    return found | {node.targets[0].id for node in tree.body if isinstance(node, ast.Assign)}
+
+
 class Rules(unittest.TestCase):
     def test_folder(self):
         found = [path for path in PACKAGE.rglob("*") if path.suffix != ".py" and "__pycache__" not in path.parts]
@@ -73,7 +90,8 @@ class Rules(unittest.TestCase):
                 self.assertTrue(isinstance(node.right, ast.Constant) and 0 <= node.right.value <= 64, name)
 
     def test_names(self):
-        known = set(dir(builtins))
+        # The rows of README.md leave their last value under the name _.
+        known = set(dir(builtins)) - {"_"}
         for name, node in nodes(ast.Name):
             if node.id in known:
                 self.assertIn(node.id, ALLOWED_BUILTINS, name)
@@ -85,3 +103,51 @@ class Rules(unittest.TestCase):
             self.assertNotIn(node.name, known | BARRED, name)
         for name, node in nodes(ast.Attribute):
             self.assertNotIn(node.attr, BARRED | {"format", "args"}, name)
+
+    def test_names_of_imports_and_classes_are_not_used_again(self):
+        for module, tree in trees().items():
+            taken = {word.name for node in tree.body if isinstance(node, ast.ImportFrom) for word in node.names}
+            for node in tree.body:
+                if isinstance(node, (ast.FunctionDef, ast.ClassDef)):
+                    self.assertNotIn(node.name, taken, module)
+                    taken.add(node.name)
+            functions = {node.name for node in tree.body if isinstance(node, ast.FunctionDef)}
+            for node in ast.walk(tree):
+                if isinstance(node, ast.arg):
+                    self.assertNotIn(node.arg, taken - functions, module)
+                if isinstance(node, ast.Name) and isinstance(node.ctx, ast.Store):
+                    self.assertNotIn(node.id, taken - functions, module)
+
+    def test_names_are_imported_from_where_they_are_defined(self):
+        files = trees()
+        for module, tree in files.items():
+            for other, names in imports_of(tree).items():
+                self.assertLessEqual(names, defined_in(files[other]), module)
+
+    def test_all_imports_are_used(self):
+        for module, tree in trees().items():
+            used = {node.id for node in ast.walk(tree) if isinstance(node, ast.Name)}
+            for node in tree.body:
+                if isinstance(node, ast.ImportFrom):
+                    self.assertLessEqual({word.name for word in node.names}, used, module)
+
+    def test_no_circle_of_imports(self):
+        files = {module: set(imports_of(tree)) for module, tree in trees().items()}
+        while files:
+            free = [module for module, needs in files.items() if not needs & set(files)]
+            self.assertNotEqual(free, [])
+            files = {module: needs for module, needs in files.items() if module not in free}
+
+    def test_sets_stand_in_sorted_and_len_alone(self):
+        for path in FILES:
+            for node in ast.walk(ast.parse(path.read_text("ascii"))):
+                fits = isinstance(node, ast.Call) and getattr(node.func, "id", None) in ("sorted", "len")
+                for part in ast.iter_child_nodes(node):
+                    made = isinstance(part, ast.Call) and getattr(part.func, "id", None) == "set"
+                    if made or isinstance(part, (ast.Set, ast.SetComp)):
+                        self.assertTrue(fits, f"{path.name}: {part.lineno}")
+
+    def test_generators_are_not_called_by_the_package(self):
+        for module, tree in trees().items():
+            for node in ast.walk(tree):
+                self.assertFalse(isinstance(node, ast.Call) and getattr(node.func, "id", None) == "subsets", module)
