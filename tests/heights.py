@@ -143,6 +143,43 @@ def pairs_beyond(raised, side):
             if d not in three and lies_within(raised.floor, three, d) and (d in below) == (side == -1)]
 
 
+def weights_of(floor, four):
+    """Weights with the sum 0 under which the four points add up to nothing; the two signs are those of the split."""
+    p, q, r, s = [floor.points[k] for k in four]
+    return (doubled(q, r, s), -doubled(p, r, s), doubled(p, q, s), -doubled(p, q, r))
+
+
+def parts_told(floor, four):
+    """The two parts of the split."""
+    weights = weights_of(floor, four)
+    return [tuple([k for k, weight in zip(four, weights) if sign(weight) == side]) for side in (1, -1)]
+
+
+def barred_told(raised, four):
+    """The part that is higher at the meeting point."""
+    weights = weights_of(raised.floor, four)
+    rises = sum(weight * raised.heights[k] for k, weight in zip(four, weights))
+    return tuple([k for k, weight in zip(four, weights) if weight * rises > 0])
+
+
+def first_four(n, subset, bars):
+    """The first four, in ascending order, whose members in the subset are among the parts that bar it, or None."""
+    for four in combinations(range(n), 4):
+        if tuple([k for k in four if k in subset]) in bars[four]:
+            return four
+    return None
+
+
+def bars_of(raised):
+    """For each four its barred part, in a list."""
+    return {four: [barred_told(raised, four)] for four in combinations(range(len(raised)), 4)}
+
+
+def crossings_of(floor):
+    """For each four the two parts of its split."""
+    return {four: parts_told(floor, four) for four in combinations(range(len(floor)), 4)}
+
+
 def subsets_of(n):
     """All subsets of n numbers."""
     return [part for size in range(n + 1) for part in combinations(range(n), size)]

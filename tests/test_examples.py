@@ -5,11 +5,15 @@ from pathlib import Path
 
 from everybowl.bowls import Bowl
 from everybowl.circles import circle, inside_circle
-from everybowl.errors import OnLine
+from everybowl.errors import Barred, OnLine
 from everybowl.floors import Floor
 from everybowl.holds import held_by
+from everybowl.hub import Rows
 from everybowl.linerows import line_row
+from everybowl.lowered import plane_for
+from everybowl.patterns import barred_part
 from everybowl.planerows import plane_row
+from everybowl.raised import Raised
 from everybowl.tables import bends, unbend
 from tests.helpers import Case
 
@@ -40,6 +44,22 @@ class Examples(Case):
         floor = Floor([(0, 0), (4, 0), (0, 4), (1, 1)])
         x, y, square = circle(floor, 0, 1, 3)
         self.same([x.text(), y.text(), square.text(), inside_circle(floor, 0, 1, 3)], ["2", "-1", "5", []])
+
+    def test_rows(self):
+        floor = Floor([(0, 0), (4, 0), (0, 4), (1, 1)])
+        rows = Rows.of(floor)
+        self.same([rows("lowered"), rows("cuts"), rows("nets"), rows.fours],
+                  [[1, 4, 6, 3, 1], [1, 3, 6, 3, 1], [4, 3], 0])
+
+    def test_barred_part(self):
+        floor = Floor([(0, 0), (4, 0), (0, 4), (1, 1)])
+        deep = Raised(floor, [0, 16, 16, 2])
+        high = Raised(floor, [0, 0, 0, 5])
+        self.same([barred_part(deep, 0, 1, 2, 3), barred_part(high, 0, 1, 2, 3)], [(0, 1, 2), (3,)])
+
+    def test_plane_for(self):
+        floor = Floor([(0, 0), (4, 0), (0, 4), (1, 1)])
+        self.refuses(Barred((0, 1, 2, 3)), plane_for, Raised(floor, [0, 0, 0, 5]), [3])
 
     def test_readme(self):
         text = README.read_text("ascii").replace("```", "")

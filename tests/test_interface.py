@@ -29,6 +29,16 @@ FUNCTIONS = {
                   "pole_row": ["raised", "number"], "high_row": ["raised"], "deep_row": ["raised"],
                   "inner_row": ["raised"], "net_row": ["raised"]},
     "pencils": {"pencil": ["raised", "a", "b"], "pencil_sets": ["raised", "a", "b"]},
+    "means": {"mean_corners": ["floor", "size"], "mean_triangles": ["raised", "size"],
+              "mean_net_points": ["raised", "size"]},
+    "patterns": {"barred_part": ["raised", "a", "b", "c", "d"], "barred_four": ["raised", "subset"],
+                 "crossed_four": ["floor", "subset"]},
+    "lowered": {"is_lowered": ["raised", "subset"], "lowered": ["raised", "size"], "lowered_counts": ["raised"],
+                "plane_for": ["raised", "subset"]},
+    "cuts": {"is_cut": ["floor", "subset"], "cuts": ["floor", "size"], "cut_counts": ["floor"],
+             "line_for": ["floor", "subset"]},
+    "exchanges": {"neighbours": ["raised", "subset"], "neighbour_counts": ["raised"],
+                  "walk": ["raised", "first", "last"]},
 }
 
 CLASSES = {
@@ -52,6 +62,9 @@ CLASSES = {
         "__init__": ["self", "floor", "heights"], "circular": ["cls", "floor"], "only": ["self", "numbers"],
         "without": ["self", "number"], "plus": ["self", "point", "height"], "tilted": ["self", "a", "b", "c"],
         "__add__": ["self", "other"], "__mul__": ["self", "other"], "__or__": ["self", "other"]}},
+    "hub": {"Rows": {
+        "of": ["cls", "floor"], "made": ["cls", "form", "row"], "fours": ["self"], "convex": ["self"],
+        "__call__": ["self", "form"], "__eq__": ["self", "other"]}},
 }
 
 
