@@ -24,12 +24,7 @@ def cuts(floor, size):
 
 def cut_counts(floor):
     """Return for each size from 0 to n how many subsets of this size are cut off by a line."""
-    return cuts_by_lines(line_row(floor))
-
-
-def cuts_by_lines(row):
-    """Return the numbers of subsets that are cut off, which a line row tells."""
-    return [1, *row, 1]
+    return [1, *line_row(floor), 1]
 
 
 def line_for(floor, subset):

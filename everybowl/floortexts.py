@@ -36,7 +36,7 @@ def read_rows(text, head, count):
     lines = text.split("\n")
     if lines[0] != head:
         raise WrongLine(1)
-    return [read_integers(line, count, number) for number, line in enumerate(lines[1:], 2)]
+    return [read_integers(line, count, number) for number, line in enumerate(lines[1:], start=2)]
 
 
 def read_integers(line, count, number):

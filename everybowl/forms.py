@@ -1,7 +1,6 @@
 """The forms of rows: each row that a line row tells, and the line row that tells a row."""
 
 from everybowl.choices import choose
-from everybowl.cuts import cuts_by_lines
 from everybowl.linerows import corners_by_lines
 from everybowl.planerows import nets_by_planes
 from everybowl.ratios import Ratio
@@ -13,10 +12,20 @@ def lines_told(lines):
     return list(lines)
 
 
+def corners_told(lines):
+    """Return the corner row."""
+    return corners_by_lines(lines)
+
+
 def inner_told(lines):
     """Return the inner row, whose bends are n less the entries of the line row."""
     n = len(lines) + 1
     return unbend([n - entry for entry in lines])
+
+
+def cuts_told(lines):
+    """Return the numbers of subsets that are cut off by a line."""
+    return [1, *lines, 1]
 
 
 def planes_told(lines):
@@ -101,7 +110,7 @@ def lines_of_sums(sums):
 
 
 TELLERS = {
-    "lines": lines_told, "corners": corners_by_lines, "inner": inner_told, "cuts": cuts_by_lines,
+    "lines": lines_told, "corners": corners_told, "inner": inner_told, "cuts": cuts_told,
     "planes": planes_told, "nets": nets_told, "lowered": lowered_told, "means": means_told,
 }
 READERS = {
