@@ -64,7 +64,7 @@ def followers_to(table, first, last):
     ring = [last]
     while first not in follower:
         fresh = []
-        for subset in ring:
+        for subset in list(ring):
             for neighbour in table[subset]:
                 if neighbour not in follower:
                     follower[neighbour] = subset
