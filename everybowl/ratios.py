@@ -7,6 +7,8 @@ from everybowl.errors import WrongLine, ZeroBottom
 
 # The least integer with more than Ratio.FIGURES digits; 10 ** 400 itself may not be written.
 _TOO_LONG = (10 ** 50) ** 8
+# The least integer with more digits than a price or a place may have.
+_LONG = (10 ** 45) ** 2
 _DIGITS = "0123456789"
 
 
@@ -89,6 +91,12 @@ class Ratio:
 def check_figures(value):
     """Refuse an integer with more digits than a Ratio may have."""
     check_range(value, 1 - _TOO_LONG, _TOO_LONG - 1)
+
+
+def check_short(ratio):
+    """Refuse a Ratio that is too long for a price or a place, with its top or else with its bottom."""
+    check_range(ratio.top, 1 - _LONG, _LONG - 1)
+    check_range(ratio.bottom, 1, _LONG - 1)
 
 
 def signed_divisor(top, bottom):

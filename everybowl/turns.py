@@ -54,6 +54,11 @@ def bare_area(p, q, r):
     return (q[0] - p[0]) * (r[1] - p[1]) - (q[1] - p[1]) * (r[0] - p[0])
 
 
+def bare_cross(first, second):
+    """Return a positive integer if the second of two ways (x, y) from one place is on the left of the first."""
+    return first[0] * second[1] - first[1] * second[0]
+
+
 def bare_rise(p, q, r, s):
     """Return how much s is above the plane through p, q and r, times the doubled area of p, q and r."""
     return (

@@ -7,6 +7,7 @@ from itertools import combinations
 from everybowl.bowls import Bowl
 from everybowl.floors import Floor
 from everybowl.raised import Raised
+from everybowl.ratios import Ratio
 from tests.helpers import FAR, SAMPLE, WIDE, all_floors, doubled, lies_within, scattered
 
 HIGH = 10 ** 15
@@ -191,3 +192,29 @@ def fraction(ratio):
 
 def is_short(value):
     return abs(value) < 10 ** 90
+
+
+def ratio(value):
+    """The Ratio of a fraction or an integer."""
+    return Ratio(Fraction(value).numerator, Fraction(value).denominator)
+
+
+def drawn_ratio(source, far):
+    """A Ratio that looks random, with a top of at most this much and a small bottom."""
+    return ratio(Fraction(next(source) % (2 * far + 1) - far, next(source) % 12 + 1))
+
+
+# The longest integers of a Ratio that may be a price or a place, and the first ones beyond them.
+NINES = 10 ** 90 - 1
+BEYOND = 10 ** 90
+
+
+def long_ratios(source):
+    """Ratios with tops and bottoms of 90 digits, without a common divisor."""
+    return [Ratio(sign_ * (NINES - next(source) % 1000), 10 ** 89 + 7 * next(source)) for sign_ in (1, -1)]
+
+
+# Ratios that are too long, each with the integer that is told.
+TOO_LONG = [(Ratio(BEYOND), BEYOND), (Ratio(-BEYOND), -BEYOND), (Ratio(BEYOND, NINES), BEYOND),
+            (Ratio(1, BEYOND), BEYOND), (Ratio(-NINES, BEYOND), BEYOND), (Ratio(BEYOND + 1, BEYOND), BEYOND + 1),
+            (Ratio(-BEYOND - 1, BEYOND), -BEYOND - 1), (Ratio(3 ** 600), 3 ** 600), (Ratio(1, 3 ** 600), 3 ** 600)]

@@ -14,7 +14,9 @@ from everybowl.lowered import plane_for
 from everybowl.patterns import barred_part
 from everybowl.planerows import plane_row
 from everybowl.raised import Raised
+from everybowl.spots import Spot
 from everybowl.tables import bends, unbend
+from everybowl.turning import exchange_places
 from tests.helpers import Case
 
 
@@ -60,6 +62,16 @@ class Examples(Case):
     def test_plane_for(self):
         floor = Floor([(0, 0), (4, 0), (0, 4), (1, 1)])
         self.refuses(Barred((0, 1, 2, 3)), plane_for, Raised(floor, [0, 0, 0, 5]), [3])
+
+    def test_spot(self):
+        floor = Floor([(0, 0), (4, 0), (0, 4), (1, 1)])
+        spot = Spot(floor, 2, 1)
+        self.same([spot.spokes, spot.lefts, spot.row, spot.triangles()],
+                  [(0, 1, 2, 3), (1, 1, 2, 2), [1, 1], [(0, 1, 2), (1, 2, 3)]])
+
+    def test_exchange_places(self):
+        floor = Floor([(0, 0), (4, 0), (0, 4), (1, 1)])
+        self.same(exchange_places(floor), [(2, 3, 1), (1, 2, 2), (1, 3, 1), (0, 1, 0), (0, 3, 1), (0, 2, 2)])
 
     def test_readme(self):
         text = README.read_text("ascii").replace("```", "")

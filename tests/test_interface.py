@@ -39,6 +39,14 @@ FUNCTIONS = {
              "line_for": ["floor", "subset"]},
     "exchanges": {"neighbours": ["raised", "subset"], "neighbour_counts": ["raised"],
                   "walk": ["raised", "first", "last"]},
+    "prices": {"costs": ["raised", "alpha", "beta"], "cheapest": ["raised", "alpha", "beta", "size"],
+               "prices_for": ["raised", "subset"], "price_steps": ["raised", "start", "goal", "size"]},
+    "spotrows": {"height_row": ["raised", "spot"], "low_triangle": ["raised", "spot"],
+                 "high_triangle": ["raised", "spot"]},
+    "nearest": {"nearest": ["floor", "x", "y", "size"], "hoop": ["floor", "subset"]},
+    "turning": {"turning": ["floor"], "orders": ["floor"], "exchange_places": ["floor"],
+                "read_turns": ["order", "pairs"]},
+    "kinds": {"kind_of": ["floor"], "renamings": ["first", "second"]},
 }
 
 CLASSES = {
@@ -65,6 +73,10 @@ CLASSES = {
     "hub": {"Rows": {
         "of": ["cls", "floor"], "made": ["cls", "form", "row"], "fours": ["self"], "convex": ["self"],
         "__call__": ["self", "form"], "__eq__": ["self", "other"]}},
+    "spots": {"Spot": {
+        "__init__": ["self", "floor", "x", "y", "scale="], "inside": ["self"], "row": ["self"],
+        "triangles": ["self"], "around": ["self", "size"]}},
+    "kinds": {"Kind": {"__eq__": ["self", "other"]}},
 }
 
 
@@ -77,9 +89,11 @@ def named(tree, kind):
 
 
 def parameters(function):
+    """The names of the parameters; those that are passed by keyword end in a sign of equality."""
     given = function.args
     names = [arg.arg for arg in given.posonlyargs + given.args]
-    return names + ([f"*{given.vararg.arg}"] if given.vararg else [])
+    names += [f"*{given.vararg.arg}"] if given.vararg else []
+    return names + [f"{arg.arg}=" for arg in given.kwonlyargs]
 
 
 class Interface(unittest.TestCase):

@@ -16,6 +16,7 @@ ALLOWED_BUILTINS = {
     "StopIteration", "NotImplemented", "property", "classmethod", "staticmethod", "super",
 }
 DECORATORS = {"property", "classmethod", "staticmethod"}
+CHANGES = {"append", "extend", "insert", "pop", "remove", "clear", "update", "setdefault", "reverse"}
 TAKE_LISTS = {"any", "all", "min", "max", "sum", "sorted"}
 BARRED = {"register", "mro", "elements", "open", "input", "law", "type", "id", "vars", "dir", "hash", "sort"}
 
@@ -148,6 +149,37 @@ class Rules(unittest.TestCase):
                         self.assertTrue(fits, f"{path.name}: {part.lineno}")
 
     def test_generators_are_not_called_by_the_package(self):
-        for module, tree in trees().items():
-            for node in ast.walk(tree):
-                self.assertFalse(isinstance(node, ast.Call) and getattr(node.func, "id", None) == "subsets", module)
+        files = trees()
+        made = {node.name for tree in files.values() for node in ast.walk(tree)
+                if isinstance(node, ast.FunctionDef) and any(isinstance(part, (ast.Yield, ast.YieldFrom))
+                                                             for part in ast.walk(node))}
+        self.assertEqual(made, {"subsets", "price_steps", "turning", "orders"})
+        for module, tree in files.items():
+            names = [node.id for node in ast.walk(tree) if isinstance(node, ast.Name)]
+            names += [node.arg for node in ast.walk(tree) if isinstance(node, ast.arg)]
+            self.assertEqual([name for name in names if name in made], [], module)
+
+    def test_loops_do_not_change_what_they_walk(self):
+        """Neither by its name nor by a name that it has through a plain assignment."""
+        for name, function in nodes(ast.FunctionDef):
+            for loop in ast.walk(function):
+                if isinstance(loop, ast.For):
+                    walked = names_walked(function, loop.iter)
+                    changed = [part.func.value for row in loop.body for part in ast.walk(row)
+                               if isinstance(part, ast.Call) and isinstance(part.func, ast.Attribute)
+                               and part.func.attr in CHANGES]
+                    changed += [part.value for row in loop.body for part in ast.walk(row)
+                                if isinstance(part, ast.Subscript) and not isinstance(part.ctx, ast.Load)]
+                    self.assertFalse({ast.unparse(part) for part in changed} & walked, f"{name}: {loop.lineno}")
+
+
+def names_walked(function, walked):
+    """The names and attributes that a loop goes over, unless it goes over a copy."""
+    if isinstance(walked, ast.Call) and getattr(walked.func, "id", None) in ("list", "sorted", "tuple"):
+        return set()
+    found = {ast.unparse(part) for part in ast.walk(walked) if isinstance(part, (ast.Name, ast.Attribute))}
+    given = [(ast.unparse(target), ast.unparse(node.value)) for node in ast.walk(function)
+             if isinstance(node, ast.Assign) for target in node.targets]
+    for _ in given:
+        found |= {value for name, value in given if name in found} | {name for name, value in given if value in found}
+    return found
