@@ -1,16 +1,20 @@
-"""The rows of the document's Examples for the modules that are there, and those of README.md."""
+"""The rows of the document's Examples, and those of README.md."""
 
 import doctest
 from pathlib import Path
 
 from everybowl.bowls import Bowl
 from everybowl.circles import circle, inside_circle
+from everybowl.desks import Desk
 from everybowl.errors import Barred, OnLine
 from everybowl.floors import Floor
+from everybowl.floorways import floor_events
+from everybowl.heightways import height_events
 from everybowl.holds import held_by
 from everybowl.hub import Rows
 from everybowl.linerows import line_row
 from everybowl.lowered import plane_for
+from everybowl.papers import read_paper, write_paper
 from everybowl.patterns import barred_part
 from everybowl.planerows import plane_row
 from everybowl.raised import Raised
@@ -72,6 +76,30 @@ class Examples(Case):
     def test_exchange_places(self):
         floor = Floor([(0, 0), (4, 0), (0, 4), (1, 1)])
         self.same(exchange_places(floor), [(2, 3, 1), (1, 2, 2), (1, 3, 1), (0, 1, 0), (0, 3, 1), (0, 2, 2)])
+
+    def test_floor_event(self):
+        floor = Floor([(0, 0), (4, 0), (0, 4), (1, 1)])
+        event = floor_events(floor, 3, 3, 3)[0]
+        self.same([event.time.text(), event.middle, event.ends, event.left, event.right, event.to_right,
+                   event.line_change], ["1/2", 3, (1, 2), 1, 0, True, [1, -2, 1]])
+
+    def test_height_event(self):
+        floor = Floor([(0, 0), (4, 0), (0, 4), (1, 1)])
+        event = height_events(Raised(floor, [0, 0, 0, 5]), 3, -5)[0]
+        self.same([event.time.text(), event.triangle, event.inner, event.level, event.rising, event.plane_change,
+                   event.high_change], ["1/2", (0, 1, 2), 3, 0, False, [2, -2], [-1]])
+
+    def test_desk(self):
+        floor = Floor([(0, 0), (4, 0), (0, 4), (1, 1)])
+        desk = Desk(floor, [0, 16, 16, 2])
+        desk.lift(3, 9)
+        before = [desk.planes, desk.highs, desk.done]
+        desk.undo()
+        self.same([before, desk.planes, desk.undone], [[[1, 3], [1], 1], [3, 1], 1])
+
+    def test_papers(self):
+        self.same([write_paper(("within", 3, (0, 1, 2), (2, 1, 1))), read_paper("high 3 0,1,2")],
+                  ["within 3 0,1,2 2 1 1", ("high", 3, (0, 1, 2))])
 
     def test_readme(self):
         text = README.read_text("ascii").replace("```", "")

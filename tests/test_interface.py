@@ -47,6 +47,14 @@ FUNCTIONS = {
     "turning": {"turning": ["floor"], "orders": ["floor"], "exchange_places": ["floor"],
                 "read_turns": ["order", "pairs"]},
     "kinds": {"kind_of": ["floor"], "renamings": ["first", "second"]},
+    "floorways": {"floor_events": ["floor", "number", "x", "y"], "travelled": ["floor", "number", "x", "y"]},
+    "heightways": {"height_events": ["raised", "number", "height"], "lifted": ["raised", "number", "height"]},
+    "scripts": {"read_script": ["text"], "write_script": ["steps"], "run_script": ["desk", "steps", "whole="]},
+    "papers": {"corner_paper": ["floor", "number"], "cut_paper": ["floor", "subset"],
+               "under_paper": ["raised", "subset"], "touch_paper": ["raised", "number"], "bowl_paper": ["raised"],
+               "hoop_paper": ["floor", "subset"], "write_paper": ["paper"], "read_paper": ["text"]},
+    "judge": {"accepts": ["raised", "paper"], "accepted": ["raised", "*papers"]},
+    "sheets": {"row_sheet": ["rows"], "event_sheet": ["events"]},
 }
 
 CLASSES = {
@@ -77,6 +85,14 @@ CLASSES = {
         "__init__": ["self", "floor", "x", "y", "scale="], "inside": ["self"], "row": ["self"],
         "triangles": ["self"], "around": ["self", "size"]}},
     "kinds": {"Kind": {"__eq__": ["self", "other"]}},
+    "floorways": {"Event": {}, "FloorEvent": {
+        "line_change": ["self"], "fours_change": ["self"], "plane_change": ["self"]}},
+    "heightways": {"HeightEvent": {"plane_change": ["self"], "high_change": ["self"]}},
+    "desks": {"Desk": {
+        "__init__": ["self", "floor", "heights"], "lines": ["self"], "planes": ["self"], "highs": ["self"],
+        "add": ["self", "x", "y", "height"], "drop": ["self", "number"], "move": ["self", "number", "x", "y"],
+        "lift": ["self", "number", "height"], "undo": ["self"], "redo": ["self"], "set_limit": ["self", "limit"],
+        "__len__": ["self"]}},
 }
 
 
