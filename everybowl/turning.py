@@ -21,7 +21,7 @@ def change_list(floor):
         pairs.setdefault(meeting_direction(floor, first, last), []).append((first, last))
     # All directions lie within half a turn, so that each one is on the left of those that come before it.
     turned = sorted(pairs, key=lambda way: len([other for other in pairs if bare_cross(other, way) > 0]))
-    return [(way, pairs[way]) for way in turned]
+    return [(direction, pairs[direction]) for direction in turned]
 
 
 def meeting_direction(floor, a, b):
@@ -65,7 +65,8 @@ def exchange_places(floor):
 
 def placed_pairs(order, pairs):
     """Return each pair with the number of points in front of it in an order, in ascending order of this number."""
-    return sorted([(a, b, min(order.index(a), order.index(b))) for a, b in pairs], key=lambda placed: placed[2])
+    found = sorted([(min(order.index(a), order.index(b)), a, b) for a, b in pairs])
+    return [(a, b, place) for place, a, b in found]
 
 
 def read_turns(order, pairs):
