@@ -76,5 +76,5 @@ def write_paper(paper):
 
 def read_paper(text):
     """Return the paper that a text describes."""
-    word, *words = text.split(" ")
-    return (word, *parts_read(word, words))
+    words = text.split(" ")
+    return (words[0], *parts_read(words[0], words[1:]))

@@ -66,7 +66,8 @@ def read_script(text):
 
 def read_step(line, number):
     """Return the step of the line with this number."""
-    word, *parts = line.split(" ")
+    words = line.split(" ")
+    word, parts = words[0], words[1:]
     if word not in WORDS or len(parts) != WORDS[word]:
         raise WrongLine(number)
     if not all([writes_integer(part, MOST_DIGITS) for part in parts]):
