@@ -5,6 +5,7 @@ from everybowl.choices import subset_list
 from everybowl.errors import WrongCount
 from everybowl.lowered import check_lowered
 from everybowl.pencils import pencil_sets
+from everybowl.tables import tally
 
 
 def neighbours(raised, subset):
@@ -33,8 +34,7 @@ def neighbour_pairs(raised):
 
 def neighbour_counts(raised):
     """Return for each size from 0 to n how many pairs of neighbours there are."""
-    sizes = [len(first) for first, second in neighbour_pairs(raised)]
-    return [sizes.count(size) for size in range(len(raised) + 1)]
+    return tally([len(first) for first, second in neighbour_pairs(raised)], len(raised) + 1)
 
 
 def walk(raised, first, last):

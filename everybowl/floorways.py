@@ -5,6 +5,7 @@ from everybowl.choices import subset_list
 from everybowl.errors import Meets
 from everybowl.floors import Floor, others
 from everybowl.fours import rest_of
+from everybowl.tables import tally
 from everybowl.times import zero_moments
 from everybowl.turns import bare_area
 
@@ -54,7 +55,7 @@ def sides(event):
 
 def steps_row(length, rises, falls):
     """Return the row that has 1 more for each of the places in `rises`, and 1 less for each one in `falls`."""
-    return [rises.count(j) - falls.count(j) for j in range(length)]
+    return [up - down for up, down in zip(tally(rises, length), tally(falls, length))]
 
 
 def travelled(floor, number, x, y):

@@ -4,12 +4,12 @@ from math import comb
 
 from everybowl.checks import check_number, check_size
 from everybowl.floors import others
+from everybowl.tables import tally
 
 
 def line_row(floor):
     """Return the list whose entry at j tells how many directed lines have j points on their left."""
-    counts = [left for line, left in lines_and_lefts(floor)]
-    return [counts.count(j) for j in range(len(floor) - 1)]
+    return tally([left for line, left in lines_and_lefts(floor)], len(floor) - 1)
 
 
 def lines_with(floor, count):

@@ -5,6 +5,7 @@ from everybowl.choices import subset_list
 from everybowl.errors import Barred
 from everybowl.nudges import nudged_plane
 from everybowl.patterns import barred_four
+from everybowl.tables import tally
 
 
 def is_lowered(raised, subset):
@@ -27,8 +28,7 @@ def lowered(raised, size):
 
 def lowered_counts(raised):
     """Return for each size from 0 to n how many subsets of this size lie under a plane."""
-    sizes = [len(subset) for subset in lowered_subsets(raised)]
-    return [sizes.count(size) for size in range(len(raised) + 1)]
+    return tally([len(subset) for subset in lowered_subsets(raised)], len(raised) + 1)
 
 
 def lowered_subsets(raised):

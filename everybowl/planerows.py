@@ -3,7 +3,7 @@
 from everybowl.checks import check_number, check_size
 from everybowl.choices import subset_list
 from everybowl.fours import inner_pairs
-from everybowl.tables import spread
+from everybowl.tables import spread, tally
 
 
 def plane_row(raised):
@@ -20,11 +20,6 @@ def planes_with(raised, count):
 def planes_and_counts(raised):
     """Return all triangles, in ascending order, each with the number of raised points below its plane."""
     return [(three, len(raised.below(*three))) for three in subset_list(len(raised), 3)]
-
-
-def tally(counts, length):
-    """Return the list whose entry at j tells how many of the counts are j."""
-    return [counts.count(j) for j in range(length)]
 
 
 def side_row(raised):

@@ -2,7 +2,7 @@
 
 from everybowl.bowls import check_floors
 from everybowl.nets import lower_net, upper_net
-from everybowl.planerows import tally
+from everybowl.tables import tally
 
 
 def height_row(raised, spot):

@@ -4,7 +4,7 @@ from everybowl.checks import check_range, check_size
 from everybowl.choices import choose, subset_list
 from everybowl.errors import OnLine
 from everybowl.ratios import Ratio
-from everybowl.tables import unbend
+from everybowl.tables import tally, unbend
 from everybowl.turns import bare_cross, is_within
 
 FARTHEST_SPOT = 10 ** 12
@@ -37,7 +37,7 @@ class Spot:
     @property
     def row(self):
         """The spot row, which is the height row of all heights over the floor."""
-        return unbend([1 - self.lefts.count(s) for s in range(len(self.lefts))])
+        return unbend([1 - equal for equal in tally(self.lefts, len(self.lefts))])
 
     def triangles(self):
         """Return the triangles around the spot, in ascending order."""

@@ -1,4 +1,4 @@
-"""Sums over table rows, and how to undo them."""
+"""Sums over table rows and how to undo them, and rows of counts."""
 
 from math import comb
 
@@ -48,6 +48,12 @@ def unbend(row):
     if found[-2:] != [0, 0]:
         raise WrongRow("bends")
     return found[2:-2]
+
+
+def tally(counts, length):
+    """Return the list whose entry at j tells how many of the counts are j."""
+    # Not by the method `count` of lists: properties run this, and an error has an attribute of that name.
+    return [len([entry for entry in counts if entry == j]) for j in range(length)]
 
 
 def check_row(row, least):

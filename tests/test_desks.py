@@ -1,5 +1,7 @@
 """Points 62 to 64: desks."""
 
+from itertools import combinations, permutations
+
 from everybowl.bowls import Bowl
 from everybowl.desks import Desk
 from everybowl.errors import (
@@ -59,6 +61,18 @@ class Present(Case):
             before = list(getattr(desk, name))
             getattr(desk, name).append("more")
             self.same(getattr(desk, name), before)
+
+    def test_rows_while_points_are_dropped(self):
+        for raised in many_raised()[::6]:
+            desk = Desk(raised.floor, raised.heights)
+            while len(desk) > 3:
+                n, now = len(desk), desk.raised
+                lefts = [len(now.floor.left_of(a, b)) for a, b in permutations(range(n), 2)]
+                belows = [len(now.below(*three)) for three in combinations(range(n), 3)]
+                self.same(desk.lines, [lefts.count(j) for j in range(n - 1)])
+                self.same(desk.planes, [belows.count(j) for j in range(n - 2)])
+                self.same(desk.highs, high_row(now))
+                desk.drop(n // 2)
 
     def test_list_of_heights_is_copied(self):
         heights = list(DEEP)

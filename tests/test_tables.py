@@ -4,7 +4,7 @@ from itertools import islice
 from math import comb
 
 from everybowl.errors import TooFar, WrongCount, WrongRow
-from everybowl.tables import bends, gather, spread, unbend
+from everybowl.tables import bends, gather, spread, tally, unbend
 from tests.helpers import Case, scattered
 
 FAR = 10 ** 40
@@ -28,6 +28,18 @@ class Spread(Case):
     def test_longest(self):
         row = [FAR, -FAR] * 32
         self.same(spread(row), [sum(row[m] * comb(m, s) for m in range(64)) for s in range(64)])
+
+
+class Tally(Case):
+    def test_against_count(self):
+        for length in range(12):
+            for size in range(20):
+                counts = row_of(size, 10)
+                for given in (counts, tuple(counts)):
+                    self.same(tally(given, length), [counts.count(j) for j in range(length)])
+
+    def test_known(self):
+        self.same([tally([], 0), tally([], 2), tally((2, 0, 2, 5, -1), 4)], [[], [0, 0], [1, 0, 2, 0]])
 
 
 class Gather(Case):
