@@ -39,7 +39,9 @@ def do_step(desk, step):
     """Call the method of the desk that a step names."""
     word, *numbers = step
     if word == "add":
-        desk.add(*numbers)
+        # One by one: sets have a method of this name, too, and a call of that one takes no star.
+        x, y, height = numbers
+        desk.add(x, y, height)
     elif word == "drop":
         desk.drop(*numbers)
     elif word == "move":

@@ -53,6 +53,17 @@ class RunScript(Case):
                     self.same(past, history(by_hand(steps)))
                     self.same(desk.running, False)
 
+    def test_what_add_is_passed(self):
+        for whole in (False, True):
+            desk = sample_desk()
+            self.same(run_script(desk, [("drop", 3), ("add", 5, -7, 99)], whole=whole), 2)
+            self.same([desk.raised.floor.points[-1], desk.raised.heights[-1]], [(5, -7), 99])
+            for step in (("add", FAR + 1, 0, 0), ("add", 0, -FAR - 1, 0), ("add", 9, 9, HIGH + 1)):
+                before = history(desk)
+                self.refuses(Refused(0), lambda: run_script(desk, [step], whole=whole))
+                self.same(history(desk), before)
+            self.same(run_script(desk, [("add", FAR, -FAR, HIGH)], whole=whole), 1)
+
     def test_a_refused_step_at_each_place(self):
         for place in range(len(GOOD)):
             for bad in REFUSED:
