@@ -17,6 +17,10 @@ ALLOWED_BUILTINS = {
 }
 DECORATORS = {"property", "classmethod", "staticmethod"}
 CHANGES = {"append", "extend", "insert", "pop", "remove", "clear", "update", "setdefault", "reverse"}
+# These may change things; all other double-underscore methods change nothing and call nothing that they hold.
+FREE_METHODS = {"__init__", "__call__", "__iter__", "__enter__", "__exit__"}
+BUILTIN_METHODS = {name for kind in (str, bytes, int, list, tuple, dict, set) for name in dir(kind)}
+STARRED_BUILTINS = {"max", "min", "zip"}
 TAKE_LISTS = {"any", "all", "min", "max", "sum", "sorted"}
 BARRED = {"register", "mro", "elements", "open", "input", "law", "type", "id", "vars", "dir", "hash", "sort"}
 
@@ -172,6 +176,84 @@ class Rules(unittest.TestCase):
                     changed += [part.value for row in loop.body for part in ast.walk(row)
                                 if isinstance(part, ast.Subscript) and not isinstance(part.ctx, ast.Load)]
                     self.assertFalse({ast.unparse(part) for part in changed} & walked, f"{name}: {loop.lineno}")
+
+    def test_what_operators_and_properties_run_calls_nothing_held(self):
+        """Neither a method with the name of an attribute, nor what the function was handed or keeps."""
+        attributes = stored_attributes()
+        self.assertIn("count", attributes)
+        for root in run_by_itself():
+            for name, function in reached_from(root):
+                kept = names_kept(function)
+                for call in calls_in(function):
+                    where = f"{name}: {call.lineno}, run by {root.name}"
+                    self.assertNotIn(getattr(call.func, "attr", None), attributes, where)
+                    self.assertNotIn(getattr(call.func, "id", None), kept, where)
+
+    def test_stars_stand_in_calls_of_own_names(self):
+        """Not in a call of a method that a value of Python's own has, too."""
+        barred = set(dir(builtins)) - STARRED_BUILTINS
+        properties = {node.name for node in run_by_itself()}
+        for name, call in nodes(ast.Call):
+            where = f"{name}: {call.lineno}"
+            self.assertTrue(all(word.arg is not None for word in call.keywords), where)
+            for part in [part.value for part in call.args if isinstance(part, ast.Starred)]:
+                self.assertNotIn(getattr(call.func, "attr", None), BUILTIN_METHODS, where)
+                self.assertNotIn(getattr(call.func, "id", None), barred, where)
+                self.assertIsInstance(part, (ast.Name, ast.Attribute), where)
+                self.assertNotIn(getattr(part, "attr", None), properties, where)
+
+
+def calls_in(function):
+    return [node for node in ast.walk(function) if isinstance(node, ast.Call)]
+
+
+def stored_attributes():
+    """The names of all attributes that some method or function assigns."""
+    return {node.attr for _, node in nodes(ast.Attribute) if isinstance(node.ctx, ast.Store)}
+
+
+def names_kept(function):
+    """The parameters of a function, and the names that it assigns."""
+    found = {node.arg for node in ast.walk(function) if isinstance(node, ast.arg)}
+    return found | {node.id for node in ast.walk(function)
+                    if isinstance(node, ast.Name) and isinstance(node.ctx, ast.Store)}
+
+
+def run_by_itself():
+    """The operators and properties, and the methods that show, measure and compare."""
+    found = []
+    for _, node in nodes(ast.ClassDef):
+        for method in node.body:
+            if isinstance(method, ast.FunctionDef):
+                read = any(getattr(decorator, "id", None) == "property" for decorator in method.decorator_list)
+                if read or method.name.startswith("__") and method.name not in FREE_METHODS:
+                    found.append(method)
+    return found
+
+
+def defined_by_name():
+    """For each name the functions, methods and makers of objects that a call of it may run, each with its file."""
+    found = {}
+    for name, node in nodes((ast.FunctionDef, ast.ClassDef)):
+        if isinstance(node, ast.FunctionDef):
+            found.setdefault(node.name, []).append((name, node))
+        else:
+            makers = [part for part in node.body if getattr(part, "name", None) == "__init__"]
+            found.setdefault(node.name, []).extend([(name, part) for part in makers])
+    return found
+
+
+def reached_from(root):
+    """A function and all that it runs, by the names that are called."""
+    defined = defined_by_name()
+    found, fresh = [], [place for place in defined[root.name] if ast.dump(place[1]) == ast.dump(root)]
+    while fresh:
+        place = fresh.pop()
+        if ast.dump(place[1]) not in [ast.dump(known) for _, known in found]:
+            found.append(place)
+            for call in calls_in(place[1]):
+                fresh += defined.get(getattr(call.func, "attr", None) or getattr(call.func, "id", None), [])
+    return found
 
 
 def names_walked(function, walked):
